@@ -1,0 +1,1 @@
+"""Piecetrees: things that no other thing can tell apart."""

@@ -1,0 +1,14 @@
+"""The bounds that the document sets."""
+
+MAX_THINGS = 8
+MAX_LOOK = 99
+MAX_LISTED = 1000
+MAX_ABOUTS = 60
+MAX_WEIGHT = 10 ** 30
+MAX_SAMES = 1000
+MAX_NAMED = 6
+MAX_MENDED = 4
+MAX_TABLES = 6
+MAX_LOTS = 12
+MAX_EDITS = 40
+BATCH = 12

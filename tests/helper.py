@@ -1,0 +1,74 @@
+"""What several tests share: sample tables, and the document's examples run."""
+
+import unittest
+
+import piecetrees.errors as errors
+
+FAN = (3, ((0, 0, 1), (0, 0, 1), (1, 1, 0)))
+LINE = (3, ((0, 1, 1), (0, 0, 1), (0, 0, 0)))
+RING = (3, ((0, 1, 0), (0, 0, 1), (1, 0, 0)))
+
+
+def table_by(size, look):
+    """The table in which x looks look(x, y) on each other y."""
+    return (size, tuple(tuple(0 if x == y else look(x, y) for y in range(size)) for x in range(size)))
+
+
+def sample_tables():
+    """Tables of each size from 0 to 8, with looks from 0 to 99."""
+    looks = (
+        lambda x, y: 0,
+        lambda x, y: 99,
+        lambda x, y: int(x < y),
+        lambda x, y: (x + y) % 2,
+        lambda x, y: (37 * x + 11 * y) % 100,
+        lambda x, y: (x * y + 7 * x) % 10,
+    )
+    return [table_by(size, look) for size in range(9) for look in looks]
+
+
+def small_tables(size, looks):
+    """All tables of a size whose looks are among some."""
+    pairs = [(x, y) for x in range(size) for y in range(size) if x != y]
+    found = [{}]
+    for pair in pairs:
+        found = [{**one, pair: look} for one in found for look in looks]
+    return [table_by(size, lambda x, y: one[(x, y)]) for one in found]
+
+
+def replaced(items, at, item):
+    """A tuple with one item put in the place of another one."""
+    return items[:at] + (item,) + items[at + 1:]
+
+
+def with_look(table, x, y, look):
+    """A table with one look put in the place of another one."""
+    size, rows = table
+    return (size, replaced(rows, x, replaced(rows[x], y, look)))
+
+
+class ExampleCase(unittest.TestCase):
+    """Runs examples as the document prints them.
+
+    Behind ">>> " stands an import, an assignment, or an expression; the line
+    behind it, if there is one, is the repr of the answer, or "raises" and the
+    error as it would be made.
+    """
+
+    def check_examples(self, text):
+        names = {name: getattr(errors, name) for name in dir(errors) if name[0] != "_"}
+        asked = [block.strip().split("\n") for block in text.split(">>> ") if block.strip()]
+        for code, *told in asked:
+            with self.subTest(code=code):
+                self.check_example(code.strip(), "\n".join(told).strip(), names)
+
+    def check_example(self, code, told, names):
+        if not told:
+            exec(code, names)
+        elif told.startswith("raises "):
+            wanted = eval(told.removeprefix("raises "), names)
+            with self.assertRaises(type(wanted)) as caught:
+                eval(code, names)
+            self.assertEqual(vars(caught.exception), vars(wanted))
+        else:
+            self.assertEqual(repr(eval(code, names)), told)

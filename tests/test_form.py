@@ -1,0 +1,112 @@
+"""The names of the interface, and the form of the code as far as it is easily told."""
+
+import ast
+import builtins
+import inspect
+import pathlib
+import unittest
+
+import piecetrees
+from piecetrees import looks, texts
+
+FOLDER = pathlib.Path(piecetrees.__file__).parent
+INTERFACE = {
+    looks: {
+        "table_error": ["value"], "is_even": ["table"], "is_web": ["table"], "is_order": ["table"],
+        "is_course": ["table"], "part": ["table", "lot"], "turned": ["table"], "renamed": ["table", "naming"],
+        "painted": ["table", "paints"], "put_in": ["table", "thing", "other"],
+    },
+    texts: {"table_text": ["table"], "parse_table": ["value"]},
+}
+BUILTINS = set(
+    "len range enumerate zip min max sum abs sorted reversed int str bool list tuple dict set frozenset isinstance "
+    "ord repr any all divmod pow getattr hasattr setattr iter next map Exception ValueError TypeError KeyError "
+    "IndexError LookupError ZeroDivisionError ArithmeticError OverflowError RuntimeError NotImplementedError "
+    "AttributeError StopIteration NotImplemented bytes property super".split()
+)
+BARRED_NODES = (
+    ast.Global, ast.AsyncFunctionDef, ast.AsyncFor, ast.AsyncWith, ast.Await, ast.TryStar, ast.Div, ast.MatMult, ast.Import,
+)
+
+
+def bound_names(tree):
+    """All names that a file gives a meaning to."""
+    for node in ast.walk(tree):
+        if isinstance(node, (ast.FunctionDef, ast.ClassDef)):
+            yield node.name
+        elif isinstance(node, ast.Name) and isinstance(node.ctx, ast.Store):
+            yield node.id
+        elif isinstance(node, ast.arg):
+            yield node.arg
+        elif isinstance(node, ast.ImportFrom):
+            yield from (alias.asname or alias.name for alias in node.names)
+
+
+class Interface(unittest.TestCase):
+    def test_names_and_arguments(self):
+        for module, functions in INTERFACE.items():
+            for name, arguments in functions.items():
+                with self.subTest(module=module.__name__, name=name):
+                    function = getattr(module, name)
+                    self.assertTrue(inspect.isfunction(function))
+                    self.assertEqual(function.__module__, module.__name__)
+                    self.assertEqual(list(inspect.signature(function).parameters), arguments)
+
+
+class Form(unittest.TestCase):
+    def setUp(self):
+        self.texts = {path.stem: path.read_bytes().decode("ascii") for path in sorted(FOLDER.glob("*.py"))}
+        self.trees = {name: ast.parse(text) for name, text in self.texts.items()}
+
+    def nodes(self):
+        return [(name, node) for name, tree in self.trees.items() for node in ast.walk(tree)]
+
+    def test_files(self):
+        inside = [path for path in FOLDER.iterdir() if path.name != "__pycache__"]
+        self.assertEqual([path.name for path in inside if path.suffix != ".py"], [])
+        self.assertIn("__init__", self.texts)
+        for name, text in self.texts.items():
+            with self.subTest(file=name):
+                self.assertTrue(all(sign == "\n" or " " <= sign <= "~" for sign in text))
+                self.assertLessEqual(len(text.split("\n")) - 1, 399)
+                self.assertLessEqual(max(len(line) for line in text.split("\n")), 120)
+
+    def test_functions_are_short(self):
+        for name, node in self.nodes():
+            if isinstance(node, ast.FunctionDef):
+                self.assertLessEqual(node.end_lineno - node.lineno + 1, 40, (name, node.name))
+
+    def test_module_level(self):
+        for name, tree in self.trees.items():
+            for node in tree.body:
+                self.assertIsInstance(node, (ast.Expr, ast.ImportFrom, ast.FunctionDef, ast.ClassDef, ast.Assign), name)
+                if isinstance(node, ast.Expr):
+                    self.assertIsInstance(node.value, ast.Constant, name)
+
+    def test_statements(self):
+        for name, node in self.nodes():
+            self.assertNotIsInstance(node, BARRED_NODES, name)
+            if isinstance(node, ast.Constant):
+                self.assertNotIsInstance(node.value, (float, complex), name)
+            if isinstance(node, ast.Constant) and isinstance(node.value, str):
+                self.assertNotIn(chr(37), node.value, name)
+
+    def test_imports(self):
+        for name, node in self.nodes():
+            if isinstance(node, ast.ImportFrom) and node.module.split(".")[0] == "piecetrees":
+                self.assertEqual((node.level, node.module.count(".")), (0, 1), name)
+                here = self.trees[node.module.split(".")[1]].body
+                defined = [item.name for item in here if isinstance(item, (ast.FunctionDef, ast.ClassDef))]
+                defined += [target.id for item in here if isinstance(item, ast.Assign) for target in item.targets]
+                for alias in node.names:
+                    self.assertIn(alias.name, defined, name)
+            elif isinstance(node, ast.ImportFrom):
+                self.assertIn(node.module, ("heapq", "math", "itertools", "collections"), name)
+
+    def test_builtins(self):
+        every = set(dir(builtins))
+        for name, tree in self.trees.items():
+            bound = set(bound_names(tree))
+            self.assertEqual(bound & every, set(), name)
+            read = {node.id for node in ast.walk(tree) if isinstance(node, ast.Name)} - bound
+            self.assertEqual(read - BUILTINS, set(), name)
