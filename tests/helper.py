@@ -8,6 +8,11 @@ FAN = (3, ((0, 0, 1), (0, 0, 1), (1, 1, 0)))
 LINE = (3, ((0, 1, 1), (0, 0, 1), (0, 0, 0)))
 RING = (3, ((0, 1, 0), (0, 0, 1), (1, 0, 0)))
 
+# How the document sets the names that its later parts use.
+FAN_LINE_RING = r"""
+    >>> fan, line, ring = (3, ((0, 0, 1), (0, 0, 1), (1, 1, 0))), (3, ((0, 1, 1), (0, 0, 1), (0, 0, 0))), (3, ((0, 1, 0), (0, 0, 1), (1, 0, 0)))
+"""
+
 
 def table_by(size, look):
     """The table in which x looks look(x, y) on each other y."""

@@ -7,7 +7,7 @@ import pathlib
 import unittest
 
 import piecetrees
-from piecetrees import looks, texts
+from piecetrees import firm, knots, looks, pieces, texts, trees
 
 FOLDER = pathlib.Path(piecetrees.__file__).parent
 INTERFACE = {
@@ -17,6 +17,23 @@ INTERFACE = {
         "painted": ["table", "paints"], "put_in": ["table", "thing", "other"],
     },
     texts: {"table_text": ["table"], "parse_table": ["value"]},
+    pieces: {
+        "is_piece": ["table", "lot"], "telling": ["table", "lot"], "least_piece": ["table", "lot"],
+        "growing": ["table", "lot"], "pieces": ["table"], "between": ["table", "lot", "other"],
+        "quotient": ["table", "lots"],
+    },
+    trees: {
+        "tree_of": ["table"], "table_of": ["size", "tree"], "tree_error": ["size", "value"],
+        "piece_count": ["size", "tree"], "tree_text": ["size", "tree"], "parse_tree": ["size", "value"],
+    },
+    knots: {
+        "strong": ["table"], "knots": ["table"], "knot_of": ["table", "lot"], "pieces_of": ["size", "tree"],
+        "piece_at": ["size", "tree", "place"], "place_of": ["size", "tree", "lot"],
+    },
+    firm: {
+        "is_firm": ["table"], "firm_lots": ["table"], "first_firm": ["table"], "is_critical": ["table"],
+        "half_web": ["size"], "course_of": ["word", "size"], "critical_word": ["table"],
+    },
 }
 BUILTINS = set(
     "len range enumerate zip min max sum abs sorted reversed int str bool list tuple dict set frozenset isinstance "
