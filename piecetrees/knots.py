@@ -7,8 +7,7 @@ from piecetrees.trees import check_tree, knots_in, things_in, tree_of
 
 def strong(table):
     """All strong pieces, in order."""
-    single = [(x,) for x in range(table[0])]
-    return tuple(in_order(single + [knot[0] for knot in knots(table)]))
+    return tuple([(x,) for x in range(table[0])] + [knot[0] for knot in knots(table)])
 
 
 def knots(table):

@@ -8,6 +8,13 @@ def is_thing(size, value):
     return is_integer(value) and 0 <= value < size
 
 
+def is_lot(size, value):
+    """Whether a value is a lot of a size."""
+    if not isinstance(value, tuple) or not all([is_thing(size, x) for x in value]):
+        return False
+    return all([value[k] < value[k + 1] for k in range(len(value) - 1)])
+
+
 def lots_of(size, many):
     """All lots of so many things, ascending."""
     lots = [()]

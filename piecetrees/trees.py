@@ -220,14 +220,14 @@ def node_text(tree):
 
 def parse_tree(size, value):
     """The tree of a text."""
-    # None, for what is no text of a nested value, is no tree by its form.
+    # What is no number, or no head of a knot, becomes None: so the form is not that of a tree.
     tree = nested_told(size, value) if isinstance(value, str) else None
     check_tree(size, tree)
     return tree
 
 
 def nested_told(size, text):
-    """The value, nested as trees are, that a text is the text of; None if of none."""
+    """The nested value that a text tells; None, or one with a None in it, if it tells none."""
     if size == 0:
         return () if text == "()" else None
     heads, sons = [], [[]]
@@ -240,12 +240,12 @@ def nested_told(size, text):
         word = text[:len(text) - len(text.lstrip("0123456789"))]
         node = number_told(word, size - 1)
         text = text[len(word):]
-        while node is not None and heads and text.startswith(")"):
+        while heads and text.startswith(")"):
             node = knot_told(heads.pop(), tuple(sons.pop() + [node]))
             text = text[1:]
         if not heads and not text:
             return node
-        if node is None or not heads or not text.startswith(" "):
+        if not heads or not text.startswith(" "):
             return None
         sons[-1].append(node)
         text = text[1:]

@@ -1,4 +1,4 @@
-"""The examples of parts B and C, and of what part D says of firm, as the document prints them."""
+"""The examples of parts B, C and D, as the document prints them."""
 
 from helper import FAN_LINE_RING, ExampleCase
 
@@ -43,7 +43,7 @@ PART_C = r"""
     >>> parse_tree(2, '(all 1 0: 0 1)')
     raises NotTree('form')
 """
-FIRM = r"""
+PART_D = r"""
     >>> from piecetrees.firm import critical_word, course_of, firm_lots, first_firm, half_web, is_critical, is_firm
     >>> path = (4, ((0, 1, 0, 0), (1, 0, 1, 0), (0, 1, 0, 1), (0, 0, 1, 0)))
     >>> long = (5, ((0, 1, 0, 0, 0), (1, 0, 1, 0, 0), (0, 1, 0, 1, 0), (0, 0, 1, 0, 1), (0, 0, 0, 1, 0)))
@@ -51,7 +51,22 @@ FIRM = r"""
     (True, True, False, ((0, 1, 2, 3), (1, 2, 3, 4), (0, 1, 2, 3, 4)), (0, 1, 2))
     >>> first_firm((3, ((0, 1, 1), (0, 0, 1), (0, 0, 0))))
     None
+    >>> from piecetrees.growing import grown, grown_holds, leavable, leavable_pair, next_firm, spared, stand
     >>> half = half_web(6)
+    >>> stand(long, (0, 1, 2, 3), 4), stand(half, (0, 1, 3, 4), 2), stand(half, (0, 1, 3, 4), 5)
+    (('firm', None), ('alike', None), ('like', 4))
+    >>> next_firm(long, (0, 1, 2, 3)), next_firm(half, (0, 1, 3, 4)), next_firm(path, (0, 1, 2, 3))
+    ((4,), (2, 5), None)
+    >>> stand(half, (0, 1, 2), 3)
+    raises NotFirm((0, 1, 2))
+    >>> grown(long, (1, 2, 3, 4)), grown_holds(half, (0, 1, 3, 4), ((0, 1, 3, 4), (0, 1, 2, 3, 4, 5))), grown_holds(half, (0, 1, 3, 4), ((0, 1, 3, 4),))
+    (((1, 2, 3, 4), (0, 1, 2, 3, 4)), True, False)
+    >>> grown((3, ((0, 0, 1), (0, 0, 1), (1, 1, 0))), (0, 1, 2))
+    raises NotFirm((0, 1, 2))
+    >>> spared(long), leavable(long), leavable_pair(long), spared(half), leavable(half)
+    ((0, 4), (0,), None, (), (0, 3))
+    >>> leavable(path), leavable(ring)
+    (None, None)
     >>> half_web(4), course_of("bent", 5)
     ((4, ((0, 0, 1, 1), (0, 0, 0, 1), (1, 0, 0, 0), (1, 1, 0, 0))), (5, ((0, 1, 1, 0, 0), (0, 0, 1, 1, 0), (0, 0, 0, 1, 1), (1, 0, 0, 0, 0), (1, 1, 0, 1, 0))))
     >>> course_of("comb", 5), course_of("comb", 3) == ring
@@ -69,5 +84,5 @@ class ExamplesBToD(ExampleCase):
         # Part C goes on with the names of part B.
         self.check_examples(FAN_LINE_RING + PART_B + PART_C)
 
-    def test_firm(self):
-        self.check_examples(FAN_LINE_RING + FIRM)
+    def test_part_d(self):
+        self.check_examples(FAN_LINE_RING + PART_D)

@@ -7,7 +7,7 @@ import pathlib
 import unittest
 
 import piecetrees
-from piecetrees import firm, knots, looks, pieces, texts, trees
+from piecetrees import arrows, firm, growing, knots, looks, pieces, rows, texts, trees, turnings
 
 FOLDER = pathlib.Path(piecetrees.__file__).parent
 INTERFACE = {
@@ -34,6 +34,26 @@ INTERFACE = {
         "is_firm": ["table"], "firm_lots": ["table"], "first_firm": ["table"], "is_critical": ["table"],
         "half_web": ["size"], "course_of": ["word", "size"], "critical_word": ["table"],
     },
+    growing: {
+        "stand": ["table", "lot", "thing"], "next_firm": ["table", "lot"], "grown": ["table", "lot"],
+        "grown_holds": ["table", "lot", "value"], "spared": ["table"], "leavable": ["table"], "leavable_pair": ["table"],
+    },
+    arrows: {
+        "forced": ["web", "arrow"], "arrow_classes": ["web"], "chain": ["web", "arrow", "other"], "clash": ["web"],
+        "class_knot": ["web", "arrow"],
+    },
+    turnings: {
+        "turning": ["web"], "turning_error": ["web", "value"], "turning_count": ["web"], "turnings": ["web"],
+        "nth_turning": ["web", "place"], "turning_place": ["web", "order"], "loose": ["web", "order"],
+        "class_turned": ["web", "order", "arrow"], "classes_apart": ["web", "order", "other"],
+        "turning_way": ["web", "order", "other"], "turning_way_holds": ["web", "order", "other", "value"],
+    },
+    rows: {
+        "is_row": ["size", "value"], "rest": ["web"], "drawn": ["row", "other"], "orders_of": ["row", "other"],
+        "rows_of": ["order", "other"], "draw": ["web"], "draw_holds": ["web", "value"], "draw_paper": ["web"],
+        "draw_count": ["web"], "nth_draw": ["web", "place"], "draw_place": ["web", "row", "other"],
+        "twisted": ["row", "other"],
+    },
 }
 BUILTINS = set(
     "len range enumerate zip min max sum abs sorted reversed int str bool list tuple dict set frozenset isinstance "
@@ -41,8 +61,18 @@ BUILTINS = set(
     "IndexError LookupError ZeroDivisionError ArithmeticError OverflowError RuntimeError NotImplementedError "
     "AttributeError StopIteration NotImplemented bytes property super".split()
 )
+METHODS = set(
+    "append clear copy count endswith extend find get index insert isalnum isalpha isdigit islower isspace isupper items "
+    "join keys ljust lower lstrip partition pop remove replace reverse rfind rjust rpartition rsplit rstrip setdefault "
+    "split splitlines startswith strip update upper values zfill bit_length isascii removeprefix removesuffix".split()
+)
+# Such a call is iterated at once: by a loop, or by one of these.
+AT_ONCE = set("range zip enumerate reversed".split())
+VIEWS = set("items keys values".split())
+ITERATING = set("list tuple dict sorted sum any all enumerate zip min max reversed len".split())
 BARRED_NODES = (
     ast.Global, ast.AsyncFunctionDef, ast.AsyncFor, ast.AsyncWith, ast.Await, ast.TryStar, ast.Div, ast.MatMult, ast.Import,
+    ast.GeneratorExp, ast.Set, ast.Yield, ast.YieldFrom, ast.NamedExpr,
 )
 
 
@@ -57,6 +87,20 @@ def bound_names(tree):
             yield node.arg
         elif isinstance(node, ast.ImportFrom):
             yield from (alias.asname or alias.name for alias in node.names)
+
+
+def called(node):
+    """The name of a function or a method that is called; None for another node."""
+    if not isinstance(node, ast.Call):
+        return None
+    return node.func.id if isinstance(node.func, ast.Name) else node.func.attr
+
+
+def is_at_once(parent, node):
+    """Whether what stands around a range and its kin iterates over it."""
+    if isinstance(parent, (ast.For, ast.comprehension)):
+        return parent.iter == node
+    return called(parent) in ITERATING or isinstance(parent, ast.Compare)
 
 
 class Interface(unittest.TestCase):
@@ -127,3 +171,41 @@ class Form(unittest.TestCase):
             self.assertEqual(bound & every, set(), name)
             read = {node.id for node in ast.walk(tree) if isinstance(node, ast.Name)} - bound
             self.assertEqual(read - BUILTINS, set(), name)
+
+    def test_methods(self):
+        for name, node in self.nodes():
+            if isinstance(node, ast.Attribute):
+                self.assertIn(node.attr, METHODS | self.attributes(), name)
+
+    def attributes(self):
+        """The attributes that classes of the package give their objects."""
+        return {node.attr for _, node in self.nodes() if isinstance(node, ast.Attribute) and isinstance(node.ctx, ast.Store)}
+
+    def test_names_of_imports(self):
+        for name, tree in self.trees.items():
+            told = [alias.name for node in tree.body if isinstance(node, ast.ImportFrom) for alias in node.names]
+            told += [node.name for node in tree.body if isinstance(node, ast.ClassDef)]
+            self.assertEqual(len(told), len(set(told)), name)
+            bound = list(bound_names(tree))
+            self.assertEqual([one for one in told if bound.count(one) > 1], [], name)
+
+    def test_no_import_is_unused(self):
+        for name, tree in self.trees.items():
+            told = [alias.name for node in tree.body if isinstance(node, ast.ImportFrom) for alias in node.names]
+            read = {node.id for node in ast.walk(tree) if isinstance(node, ast.Name) and isinstance(node.ctx, ast.Load)}
+            self.assertEqual([one for one in told if one not in read], [], name)
+
+    def test_iterated_at_once(self):
+        for name, node in self.nodes():
+            for child in ast.iter_child_nodes(node):
+                if called(child) in AT_ONCE and isinstance(child.func, ast.Name):
+                    self.assertTrue(is_at_once(node, child), (name, child.lineno))
+                if called(child) in VIEWS and isinstance(child.func, ast.Attribute):
+                    self.assertTrue(is_at_once(node, child), (name, child.lineno))
+
+    def test_sets(self):
+        for name, node in self.nodes():
+            for child in ast.iter_child_nodes(node):
+                if called(child) == "set" or isinstance(child, ast.SetComp):
+                    told = called(node) in ("sorted", "len") or isinstance(node, ast.Compare)
+                    self.assertTrue(told, (name, child.lineno))
