@@ -2,7 +2,10 @@
 
 
 class PieceError(ValueError):
-    """Any error that this package raises by the document."""
+    """Any error that this package raises by the document; in words it tells the name of its class."""
+
+    def __str__(self):
+        return str(self.__class__.__name__)
 
 
 class Unfit(PieceError):

@@ -98,6 +98,15 @@ def turned(table):
     return (size, tuple([tuple([rows[y][x] for y in range(size)]) for x in range(size)]))
 
 
+def turned_within(table, lot):
+    """The table in which the things of a lot look on one another as they were looked on, all else staying."""
+    size, rows = table
+    return (size, tuple([
+        tuple([rows[y][x] if x in lot and y in lot else rows[x][y] for y in range(size)])
+        for x in range(size)
+    ]))
+
+
 def renamed(table, naming):
     """The table in which each thing has the new number that a naming tells."""
     return picked(table, [naming.index(new) for new in range(len(naming))])
@@ -111,6 +120,13 @@ def painted(table, paints):
         tuple([0 if x == y else paints[rows[x][y]] for y in range(size)])
         for x in range(size)
     ]))
+
+
+def with_look(table, thing, other, look):
+    """The table in which a thing has another look on another thing."""
+    size, rows = table
+    row = rows[thing][:other] + (look,) + rows[thing][other + 1:]
+    return (size, rows[:thing] + (row,) + rows[thing + 1:])
 
 
 def put_in(table, thing, other):

@@ -46,3 +46,15 @@ def joined(lot, other):
 def is_within(lot, other):
     """Whether one lot is in another one."""
     return all([x in other for x in lot])
+
+
+def reached_from(start, nexts):
+    """What is reached from a start, step by step, by a function that tells what comes next, in the order found."""
+    found = [start]
+    done = 0
+    while done < len(found):
+        for one in nexts(found[done]):
+            if one not in found:
+                found.append(one)
+        done += 1
+    return found

@@ -4,7 +4,7 @@ from piecetrees.bounds import MAX_LOOK
 from piecetrees.errors import NotTree
 from piecetrees.firm import is_firm
 from piecetrees.looks import is_look, is_tuple_of, picked, table_error
-from piecetrees.lots import in_order, is_thing
+from piecetrees.lots import in_order, is_thing, reached_from
 from piecetrees.pieces import least_piece
 from piecetrees.texts import number_told, row_text, row_told
 
@@ -51,13 +51,7 @@ def sons_by_looks(table, lot, looks):
 def reached(table, lot, thing, looks):
     """The lot of what, step by step, cannot be in a lot behind that of a thing."""
     rows = table[1]
-    found = [thing]
-    done = 0
-    while done < len(found):
-        x = found[done]
-        found = found + [y for y in lot if y not in found and (rows[x][y], rows[y][x]) != looks]
-        done += 1
-    return tuple(sorted(found))
+    return tuple(sorted(reached_from(thing, lambda x: [y for y in lot if (rows[x][y], rows[y][x]) != looks])))
 
 
 def firm_sons(table, lot):
@@ -101,25 +95,36 @@ def things_in(tree):
     return found
 
 
-def is_nested(size, value):
-    """Whether a value is nested as the trees of a size, not 0, are."""
+def is_nested(size, value, is_node):
+    """Whether a value is nested out of things of a size and of triples that a function finds right."""
     left = [value]
     while left:
         node = left.pop()
-        if is_knot(node) and node[0] in WORDS and isinstance(node[1], tuple) and isinstance(node[2], tuple) and node[2]:
+        if is_knot(node) and is_node(node):
             left.extend(node[2])
         elif not is_thing(size, node):
             return False
     return True
 
 
+def is_knot_form(triple):
+    """Whether a triple is one of a word, of a tuple, and of a tuple of one item or more."""
+    word, looks, sons = triple
+    return word in WORDS and isinstance(looks, tuple) and isinstance(sons, tuple) and len(sons) > 0
+
+
+def has_each_thing(size, value):
+    """Whether a nested value has each thing of a size just once."""
+    return sorted(things_in(value)) == list(range(size))
+
+
 def tree_error(size, value):
     """What is first wrong with a value as a tree of a size; None for a tree."""
     if size == 0:
         return None if is_tuple_of(value, 0) else "form"
-    if not is_nested(size, value):
+    if not is_nested(size, value, is_knot_form):
         return "form"
-    if sorted(things_in(value)) != list(range(size)):
+    if not has_each_thing(size, value):
         return "things"
     found = knots_in(value)
     for k in range(len(found)):
@@ -169,12 +174,17 @@ def check_tree(size, value):
 def table_of(size, tree):
     """The table whose tree a value is."""
     check_tree(size, tree)
+    return nested_table(size, tree, look_of_sons)
+
+
+def nested_table(size, value, look_between):
+    """The table of a nested value, the triples of which a function tells how their items look on one another."""
     rows = [[0] * size for _ in range(size)]
-    for word, looks, sons in knots_in(tree):
+    for first, second, sons in knots_in(value):
         lots = [things_in(son) for son in sons]
         places = [(at, to) for at in range(len(sons)) for to in range(len(sons)) if at != to]
         for at, to in places:
-            look = look_of_sons(word, looks, at, to)
+            look = look_between(first, second, at, to)
             for x, y in [(x, y) for x in lots[at] for y in lots[to]]:
                 rows[x][y] = look
     return (size, tuple([tuple(row) for row in rows]))

@@ -2,6 +2,7 @@
 
 import unittest
 
+import piecetrees.boards as boards
 import piecetrees.errors as errors
 
 FAN = (3, ((0, 0, 1), (0, 0, 1), (1, 1, 0)))
@@ -50,6 +51,33 @@ def with_look(table, x, y, look):
     """A table with one look put in the place of another one."""
     size, rows = table
     return (size, replaced(rows, x, replaced(rows[x], y, look)))
+
+
+def odd_values():
+    """Values of every kind, what the package returned among them."""
+    # Boards may be passed, too, and have an equality, a length and pieces of their own.
+    board = boards.Board(FAN)
+    deep = ()
+    for _ in range(18):
+        deep = (deep, [deep][:0])
+    return [
+        None, True, False, 0, 1, 2, -1, 10 ** 399, -10 ** 399, "", " ", "()", "0", "0 1\n2", "all", "x" * 3000, (), [], {}, (0,), [0],
+        (None,), ((),), ([],), ({},), ("",), (True,), (-1,), (8,), (0, 1), (1, 0), (0, 0), (0, True), (False, 1), (0, 1, 2), [0, 1, 2],
+        ((0,), (1,), (2,)), ((0, 1), (2,)), ((2,), (0, 1)), [(2,), (0, 1)], ([2], (0, 1)), ((0,), (0, 1), (1, 2)), (((0,),),),
+        ((), (0, 1, 2)), ((0, 1, 2),), ((True, 1), (2,)), FAN, list(FAN), (FAN,), FAN[1], {3: FAN[1]}, {0: (1,), "a": [None]},
+        {(0, 1): 2}, (0,) * 3000, tuple([()] * 61), tuple((x % 3,) for x in range(1000)), deep, board, (board,), [board], (board, board),
+        ((0, board), (1,)), "3\n- 0 1\n0 - 1\n1 1 -", ("all", (1,), (0, 1, 2)), (1, 1, (0, 1, 2)), (1, 1, ((0, 0, (0, 1)), 2)),
+    ]
+
+
+class ErrorCase(unittest.TestCase):
+    """Asks for the very error that a call is to raise."""
+
+    def check_error(self, wanted, function, *given):
+        with self.assertRaises(errors.PieceError) as caught:
+            function(*given)
+        self.assertIs(type(caught.exception), type(wanted))
+        self.assertEqual(repr(vars(caught.exception)), repr(vars(wanted)))
 
 
 class ExampleCase(unittest.TestCase):

@@ -6,11 +6,15 @@ import time
 import unittest
 
 import plain
+import plain_formulas
 import plain_webs
+from helper import FAN, RING
+from piecetrees.boards import Board, KeptBoard
 from piecetrees.errors import PieceError
+from piecetrees.shells import Shell
 from piecetrees.trees import tree_text
 from piecetrees.turnings import turning
-from test_form import INTERFACE
+from test_form import CLASSES, INTERFACE
 
 MOMENT = 3
 
@@ -29,20 +33,31 @@ def given_table(rng, table):
     trees = [plain.drawn_tree(rng, list(range(size))) if size else (), plain.tree(table)]
     nested = [[trees[0]], ["all", [0], [0, 1]], {"all": trees[1]}, ("all", (0,), [0, 1]), tuple(trees)]
     every = tuple(range(size))
+    namings = [tuple(rng.sample(every, size)) for _ in range(3)] + [every]
+    formulas = [plain_formulas.drawn_formula(rng, list(every)) if size else () for _ in range(2)]
     return {
         "table": [table],
+        "tables": [(table,), (table, plain.by(size, lambda x, y: x)), (table,) * 6, (table, FAN)],
         "size": [size],
-        "other": [table],
+        "other": {"one": [2, 3], "naming": namings[::-1], "row": namings[::-1], "tree": trees[::-1], "table": [table]},
         "lot": [every, (), tuple(range(0, size, 2)), tuple(range(size // 2)), every[:4]],
-        "lots": [tuple((x,) for x in every)],
+        "lots": [tuple((x,) for x in every), tuple(lot for lot in (every[:2], every[2:]) if lot)],
+        "even": [False, True],
         "thing": [max(size - 1, 0)],
+        **({"one": [0, 1]} if size > 3 else {}),
+        "look": [0, 1],
+        "weights": [(10 ** 30,) * size, tuple(rng.randint(-9, 9) for _ in every)],
         "place": [0, size, 10 ** 6],
-        "naming": [tuple(rng.sample(every, size))],
+        "naming": namings,
+        "row": namings,
+        "rows": [tuple(namings), (every,)],
+        "formula": formulas + nested,
         "paints": [{look: 99 - look for look in range(100)}],
         "tree": trees + nested,
         "value": [
             *trees, *nested, table, list(table), tree_text(size, trees[0]), tree_text(size, trees[1]), "()", None,
-            (every,), [every], [list(every)], (every[:4], every[:6], every),
+            (every,), [every], [list(every)], (every[:4], every[:6], every), *formulas, *namings, (every, ((0, table),)), [[0], [every]],
+            tuple((x,) for x in every), "(0 0/0 1)", tuple(namings), namings,
         ],
         "word": ["ring", "bent", "comb", "half"],
     }
@@ -61,6 +76,7 @@ def given_web(rng, web):
         "size": [size],
         "order": orders,
         "row": rows,
+        "lot": plain.lots(size)[-3:] + [()],
         "place": [0, 1, 719, 10 ** 6],
         "value": [tuple(found), found, [list(orders[0])], *orders, tuple(rows[:2]), rows, None, (), [], {0: rows[0]}],
         "other": {"arrow": found[-3:], "order": orders[::-1], "row": rows[::-1]},
@@ -73,10 +89,10 @@ def argument_sets(names, given_ones):
     if names == ["word", "size"]:
         choices["size"] = [7, 8]
     if isinstance(choices.get("other"), dict):
-        choices["other"] = choices["other"][[name for name in names if name in choices["other"]][0]]
+        choices["other"] = choices["other"][[name for name in choices["other"] if name in names][0]]
     many = max(len(told) for told in choices.values())
     sets = [{name: told[k % len(told)] for name, told in choices.items()} for k in range(many)]
-    if "lot" in names and "other" in names:
+    if names == ["table", "lot", "other"]:
         sets = [{**one, "other": tuple(x for x in range(one["table"][0]) if x not in one["lot"])} for one in sets]
     return sets
 
@@ -116,3 +132,47 @@ class Calls(unittest.TestCase):
         for web in plain_webs.wide_webs(22, 1)[-8:] + [plain.by(8, lambda x, y: 1), plain.by(2, lambda x, y: 1), (0, ())]:
             self.check_all(web, given_web(rng, web))
         self.assertEqual(sorted(set(self.asked)), sorted(name for told in INTERFACE.values() for name in told))
+
+
+class Methods(unittest.TestCase):
+    def given(self, board):
+        """Arguments for each method, by their names."""
+        size = len(board)
+        every = tuple(range(size))
+        looks = (1,) * size
+        edits = (("paint", (0, 1, 7)), ("drop", (0,)), ("turn", ((),)), ["drop", [0]])
+        return {
+            "look": {"thing": 0, "other": size - 1}, "piece": {"lot": every[:3]}, "knot": {"lot": every[1:]}, "add": {"looks": looks, "back": list(looks)},
+            "drop": {"thing": size - 1}, "paint": {"thing": 0, "other": 1, "look": 7}, "turn": {"lot": every}, "rename": {"naming": every[::-1]},
+            "put": {"thing": 0, "table": (1, ((0,),))}, "batch": {"edits": edits[:3]}, "undo": {}, "redo": {}, "at": {"version": 0}, "news": {},
+            "attempt": {"work": lambda one: one.version},
+        }
+
+    def answer(self, board, name, by_place=(), by_name=None):
+        kept = copy.deepcopy((by_place, by_name)) if name != "attempt" else None
+        before = time.perf_counter()
+        told = answer(getattr(board, name), by_place, by_name)
+        self.assertLess(time.perf_counter() - before, MOMENT, name)
+        if kept is not None:
+            self.assertEqual(repr((by_place, by_name)), repr(kept))
+        return told, board.table, board.version, board.news()
+
+    def test_each_method(self):
+        wide = [table for table in wide_tables() if table[0] == 8]
+        for board in [Board(table) for table in wide + [FAN]] + [KeptBoard(RING), KeptBoard(wide[0])]:
+            board.turn(())
+            board.turn(())
+            board.undo()
+            for name, given in self.given(board).items():
+                by_place = self.answer(board.copy(), name, by_place=tuple(given.values()))
+                by_name = self.answer(board.copy(), name, by_name=dict(reversed(given.items())))
+                self.assertEqual(by_place, by_name)
+            self.assertEqual({*self.given(board), "__init__", "copy"}, set(CLASSES[next(iter(CLASSES))]))
+
+    def test_lines(self):
+        shell = Shell()
+        lines = ["new 8", "tree", "pieces", "piece 0 7", "knot 0 1 2", "turn 0 1 2 3", "rename 7 6 5 4 3 2 1 0", "drop 0", "web 1 0 1 0 1 0 1", "undo", "redo"]
+        for line in lines * 5:
+            before = time.perf_counter()
+            shell.say(line)
+            self.assertLess(time.perf_counter() - before, MOMENT, line)

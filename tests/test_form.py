@@ -7,7 +7,10 @@ import pathlib
 import unittest
 
 import piecetrees
-from piecetrees import arrows, firm, growing, knots, looks, pieces, rows, texts, trees, turnings
+from piecetrees import (
+    abouts, arrows, boards, firm, formulas, growing, knots, looks, numbers, pieces, renames, rows, shells, texts, together, trees, triangles,
+    turnings,
+)
 
 FOLDER = pathlib.Path(piecetrees.__file__).parent
 INTERFACE = {
@@ -54,6 +57,45 @@ INTERFACE = {
         "draw_count": ["web"], "nth_draw": ["web", "place"], "draw_place": ["web", "row", "other"],
         "twisted": ["row", "other"],
     },
+    abouts: {
+        "same_pairs": ["order", "other"], "about": ["order", "lot"], "about_way": ["order", "other"],
+        "about_way_holds": ["order", "other", "value"],
+    },
+    formulas: {
+        "formula_error": ["size", "value"], "table_told": ["size", "formula"], "has_formula": ["table"],
+        "is_normal": ["size", "formula"], "formula_of": ["table"], "made_normal": ["size", "formula"], "formula_count": ["table"],
+        "formula_text": ["size", "formula"], "parse_formula": ["size", "value"],
+    },
+    numbers: {
+        "heaviest": ["table", "look", "weights"], "fewest_lots": ["table", "look"], "fewest_holds": ["table", "look", "value"],
+        "strewn_lot": ["table", "look"], "is_keeping": ["table", "value"], "keeping_count": ["table"], "keeping_at": ["table", "place"],
+        "keeping_place": ["table", "row"], "mean_place": ["table", "thing"], "share_ahead": ["table", "one", "other"],
+        "chain_lot": ["table"], "layers": ["table"], "beside_lot": ["table"], "fewest_chains": ["table"], "chains_hold": ["table", "value"],
+    },
+    renames: {
+        "renaming": ["table", "other"], "alike_count": ["table"], "round_naming": ["table"], "is_same": ["table", "naming"],
+        "same_count": ["table"], "sames": ["table"], "same_at": ["table", "place"], "same_place": ["table", "naming"],
+        "behind": ["naming", "other"], "kinds": ["table"], "makers": ["table"], "makers_hold": ["table", "value"], "normal": ["table"],
+    },
+    triangles: {
+        "looks_of": ["table"], "triangle": ["table"], "triangle_count": ["table"], "apart_look": ["table"], "built": ["table"],
+        "built_holds": ["table", "value"], "mend_count": ["table"], "mended_even": ["table"],
+    },
+    together: {
+        "together": ["tables"], "both": ["table", "other"], "tree_of_both": ["size", "tree", "other"], "lone": ["table", "other"],
+        "parting_piece": ["table", "other"], "shared_rounds": ["table", "other", "lot"], "line_of": ["row"], "rows_table": ["size", "rows"],
+        "stretches": ["size", "rows"], "is_stretch": ["rows", "lot"], "pair_classes": ["size", "lots", "even"],
+        "mend_cost": ["table", "lots", "even"], "mended": ["table", "lots", "even"], "mended_holds": ["table", "lots", "even", "value"],
+    },
+}
+CLASSES = {
+    (boards, "Board"): {
+        "__init__": ["value"], "look": ["thing", "other"], "piece": ["lot"], "knot": ["lot"], "add": ["looks", "back"], "drop": ["thing"],
+        "paint": ["thing", "other", "look"], "turn": ["lot"], "rename": ["naming"], "put": ["thing", "table"], "batch": ["edits"],
+        "undo": [], "redo": [], "at": ["version"], "news": [], "copy": [], "attempt": ["work"],
+    },
+    (boards, "KeptBoard"): {"__init__": ["value"], "copy": []},
+    (shells, "Shell"): {"__init__": [], "say": ["line"]},
 }
 BUILTINS = set(
     "len range enumerate zip min max sum abs sorted reversed int str bool list tuple dict set frozenset isinstance "
@@ -113,6 +155,14 @@ class Interface(unittest.TestCase):
                     self.assertEqual(function.__module__, module.__name__)
                     self.assertEqual(list(inspect.signature(function).parameters), arguments)
 
+    def test_classes(self):
+        for (module, name), methods in CLASSES.items():
+            told = getattr(module, name)
+            self.assertEqual((inspect.isclass(told), told.__module__), (True, module.__name__))
+            for method, arguments in methods.items():
+                with self.subTest(name=name, method=method):
+                    self.assertEqual(list(inspect.signature(vars(told)[method]).parameters), ["self", *arguments])
+
 
 class Form(unittest.TestCase):
     def setUp(self):
@@ -169,17 +219,36 @@ class Form(unittest.TestCase):
         for name, tree in self.trees.items():
             bound = set(bound_names(tree))
             self.assertEqual(bound & every, set(), name)
+            bound |= {node.name for node in ast.walk(tree) if isinstance(node, ast.ExceptHandler)}
             read = {node.id for node in ast.walk(tree) if isinstance(node, ast.Name)} - bound
             self.assertEqual(read - BUILTINS, set(), name)
 
     def test_methods(self):
+        own = self.attributes() | self.methods()
         for name, node in self.nodes():
             if isinstance(node, ast.Attribute):
-                self.assertIn(node.attr, METHODS | self.attributes(), name)
+                self.assertIn(node.attr, METHODS | own | {"__class__", "__name__", "__init__"}, name)
+                self.assertEqual(node.attr == "__name__", ast.unparse(node).endswith(".__class__.__name__"), name)
 
     def attributes(self):
         """The attributes that classes of the package give their objects."""
         return {node.attr for _, node in self.nodes() if isinstance(node, ast.Attribute) and isinstance(node.ctx, ast.Store)}
+
+    def methods(self):
+        """The methods and properties of the classes of the package."""
+        classes = [node for _, node in self.nodes() if isinstance(node, ast.ClassDef)]
+        return {item.name for node in classes for item in node.body if isinstance(item, ast.FunctionDef)}
+
+    def test_names_of_methods_and_attributes(self):
+        self.assertEqual(self.methods() & self.attributes(), set())
+        self.assertEqual({name for name in self.methods() & METHODS}, {"copy"})
+        told = {"__init__", "__str__", "__len__", "__getitem__", "__contains__", "__iter__", "__eq__"}
+        self.assertEqual({name for name in self.methods() if name.startswith("__")}, told)
+
+    def test_words_that_do_not_occur(self):
+        words = "typing enum Enum Generic Protocol ABC namedtuple dataclass overload contextmanager _wall _WallAttr metaclass= (type) Meta".split()
+        for name, text in self.texts.items():
+            self.assertEqual([word for word in words if word in text], [], name)
 
     def test_names_of_imports(self):
         for name, tree in self.trees.items():
