@@ -149,10 +149,8 @@ def formula_told(size, text):
 
 
 def triple_told(looks, parts):
-    """The triple of some parts between which looks stand; None if they make none."""
+    """The triple of some parts between which looks stand; None, or one with a None in it, if they make none."""
     if len(parts) < 2 or looks.count(looks[0]) != len(looks):
         return None
     numbers = [number_told(word, MAX_LOOK) for word in looks[0].split("/")]
-    if len(numbers) != 2 or None in numbers:
-        return None
-    return (numbers[0], numbers[1], tuple(parts))
+    return (numbers[0], numbers[1], tuple(parts)) if len(numbers) == 2 else None

@@ -12,8 +12,11 @@ def strong(table):
 
 def knots(table):
     """The piece, the word, the looks and the sons, as lots, of each knot, in order of the pieces."""
-    found = [(lot_in(knot), knot[0], knot[1], son_lots(knot)) for knot in knots_in(tree_of(table))]
-    return tuple(sorted(found, key=lambda row: (len(row[0]), row[0])))
+    found = {}
+    for word, looks, sons in knots_in(tree_of(table)):
+        piece = lot_in((word, looks, sons))
+        found[piece] = (piece, word, looks, son_lots(sons))
+    return tuple([found[piece] for piece in in_order(list(found))])
 
 
 def lot_in(tree):
@@ -21,9 +24,9 @@ def lot_in(tree):
     return tuple(sorted(things_in(tree)))
 
 
-def son_lots(knot):
-    """The sons of a knot, as lots."""
-    return tuple([lot_in(son) for son in knot[2]])
+def son_lots(sons):
+    """Trees, sons of a knot, as lots."""
+    return tuple([lot_in(son) for son in sons])
 
 
 def knot_of(table, lot):
@@ -43,7 +46,7 @@ def pieces_of(size, tree):
 
 def knot_joins(knot):
     """The joins of two sons and more of a knot that are pieces."""
-    lots = son_lots(knot)
+    lots = son_lots(knot[2])
     return [tuple(sorted([x for k in places for x in lots[k]])) for places in join_places(knot[0], len(lots))]
 
 

@@ -138,7 +138,7 @@ def row_plan(tree):
     if not is_knot(tree):
         return tree
     word, looks, sons = tree
-    return (son_lots(tree), None if word == "all" else son_orders((len(sons), looks)), [row_plan(son) for son in sons])
+    return (son_lots(sons), None if word == "all" else son_orders((len(sons), looks)), [row_plan(son) for son in sons])
 
 
 def son_orders(web):

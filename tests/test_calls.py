@@ -8,7 +8,7 @@ import unittest
 import plain
 import plain_formulas
 import plain_webs
-from helper import FAN, RING
+from helper import FAN, LINE, RING, odd_values
 from piecetrees.boards import Board, KeptBoard
 from piecetrees.errors import PieceError
 from piecetrees.shells import Shell
@@ -97,10 +97,17 @@ def argument_sets(names, given_ones):
     return sets
 
 
+def has_no_lists(value):
+    """Whether all sequences in what is returned are tuples."""
+    return type(value) in (int, bool, str, type(None)) or (type(value) is tuple and all(map(has_no_lists, value)))
+
+
 def answer(function, by_place=(), by_name=None):
     """What a call returns, or the error that it raises."""
     try:
-        return repr(function(*by_place, **(by_name or {})))
+        told = function(*by_place, **(by_name or {}))
+        assert has_no_lists(told), told
+        return repr(told)
     except PieceError as error:
         return type(error).__name__ + repr(vars(error))
 
@@ -132,6 +139,24 @@ class Calls(unittest.TestCase):
         for web in plain_webs.wide_webs(22, 1)[-8:] + [plain.by(8, lambda x, y: 1), plain.by(2, lambda x, y: 1), (0, ())]:
             self.check_all(web, given_web(rng, web))
         self.assertEqual(sorted(set(self.asked)), sorted(name for told in INTERFACE.values() for name in told))
+
+    def test_values_of_every_kind(self):
+        # Whatever value is, no call raises an error that is none of the package.
+        turning_of = {3: (3, ((0, 0, 1), (0, 0, 1), (0, 0, 0)))}
+        for table in (LINE, FAN, (1, ((0,),)), (0, ())):
+            size = table[0]
+            web = FAN if size == 3 else table
+            order = turning_of.get(size, table)
+            given_ones = {
+                "table": table, "web": web, "order": order, "other": order, "size": size, "look": 0, "lots": (), "even": True,
+                "lot": tuple(range(size)), "place": 0,
+            }
+            for module, told in INTERFACE.items():
+                for name, names in told.items():
+                    for free in [one for one in names if one in ("value", "tree", "formula")]:
+                        for value in odd_values() + [("all", Board(FAN), (0, 1)), (Board(FAN), (0,), (0, 1)), (1, 1, Board(FAN)), (3, Board(FAN))]:
+                            given = {**given_ones, free: value, **({"other": value} if name == "tree_of_both" else {})}
+                            answer(getattr(module, name), by_name={one: given[one] for one in names})
 
 
 class Methods(unittest.TestCase):

@@ -68,6 +68,14 @@ class MakersHold(ErrorCase):
                 for value in itertools.product(sames(table), repeat=many):
                     self.check(table, value)
 
+    def test_as_many_namings_that_are_no_sames(self):
+        for table in (FAN, LINE, RING, plain.by(3, lambda x, y: int(x == 0)), PAIRS):
+            for many in range(1, 3 if table[0] == 3 else 2):
+                for value in itertools.product(plain_names.namings(table[0]), repeat=many):
+                    self.check(table, value)
+        self.assertIs(makers_hold(FAN, ((0, 2, 1),)), False)
+        self.assertIs(makers_hold(FAN, ((1, 0, 2),)), True)
+
     def test_drawn_tuples(self):
         rng = random.Random(211)
         held = 0
